@@ -1,0 +1,1 @@
+"""Soundborder: a language whose typing is a set of permissions."""

@@ -6,10 +6,13 @@ from soundborder.programs import made_name, made_type, require_program, used_nam
 
 
 class Scope:
-    """What is known at one place of a body: the types by name, and the names that are known big."""
+    """What is known at one place of a body: the types by name, and the names that are known big.
 
-    def __init__(self, design, earlier, known, big):
-        self.design = design
+    The words are the design's.
+    """
+
+    def __init__(self, words, earlier, known, big):
+        self.words = words
         self.earlier = earlier
         self.known = known
         self.big = big
@@ -75,9 +78,9 @@ def _body_fault(scope, body):
 def _test_fault(scope, statement):
     """The place within the body of a test of its first fault, or None."""
     big = scope.big
-    if "keep" in scope.design:
+    if "keep" in scope.words:
         big = big + (statement[1],)
-    inner = Scope(scope.design, scope.earlier, dict(scope.known), big)
+    inner = Scope(scope.words, scope.earlier, dict(scope.known), big)
     place = _body_fault(inner, statement[2])
     scope.big = tuple([name for name in scope.big if name in inner.big])
     return place
@@ -88,7 +91,7 @@ def _go_on(scope, statement):
     word = statement[0]
     if word == "put":
         scope.big = tuple([name for name in scope.big if name != statement[1]])
-    elif word in ("call", "use") and "calls" not in scope.design:
+    elif word in ("call", "use") and "calls" not in scope.words:
         scope.big = ()
     made = made_name(statement)
     if made is not None:
@@ -97,7 +100,7 @@ def _go_on(scope, statement):
 
 def _may_pass(scope, kind):
     """Whether a value of this type may be handed on: a cell only by "share"."""
-    return not is_cell(kind) or "share" in scope.design
+    return not is_cell(kind) or "share" in scope.words
 
 
 def _may_always(scope, statement):
@@ -106,12 +109,12 @@ def _may_always(scope, statement):
 
 
 def _may_none(scope, statement):
-    return has(scope.design, "none")
+    return has(scope.words, "none")
 
 
 def _may_name(scope, statement):
     kind = scope.known[statement[2]]
-    return _may_pass(scope, kind) and within(scope.design, kind, statement[3])
+    return _may_pass(scope, kind) and within(scope.words, kind, statement[3])
 
 
 def _may_cell(scope, statement):
@@ -120,7 +123,7 @@ def _may_cell(scope, statement):
 
 
 def _may_blank(scope, statement):
-    return "blank" in scope.design
+    return "blank" in scope.words
 
 
 def _may_get(scope, statement):
@@ -128,16 +131,16 @@ def _may_get(scope, statement):
     kind = scope.known[cell]
     if not is_cell(kind) or not _may_pass(scope, wanted):
         return False
-    if kind == BLANK or within(scope.design, kind[1], wanted):
+    if kind == BLANK or within(scope.words, kind[1], wanted):
         return True
-    return cell in scope.big and within(scope.design, "big", wanted)
+    return cell in scope.big and within(scope.words, "big", wanted)
 
 
 def _may_put(scope, statement):
     kind, given = scope.known[statement[1]], scope.known[statement[2]]
-    if "put" not in scope.design or not is_cell(kind) or not _may_pass(scope, given):
+    if "put" not in scope.words or not is_cell(kind) or not _may_pass(scope, given):
         return False
-    return kind == BLANK or within(scope.design, given, kind[1])
+    return kind == BLANK or within(scope.words, given, kind[1])
 
 
 def _may_field(scope, statement):
@@ -146,7 +149,7 @@ def _may_field(scope, statement):
 
 
 def _may_cast(scope, statement):
-    return has(scope.design, "cast") and scope.known[statement[2]] in ("small", "big")
+    return has(scope.words, "cast") and scope.known[statement[2]] in ("small", "big")
 
 
 def _may_test(scope, statement):
@@ -162,14 +165,14 @@ def _may_call(scope, statement):
     if statement[2] >= len(scope.earlier):
         return False
     function = scope.earlier[statement[2]]
-    return within(scope.design, scope.known[statement[3]], function[0])
+    return within(scope.words, scope.known[statement[3]], function[0])
 
 
 def _may_use(scope, statement):
     kind = scope.known[statement[2]]
     if not is_function(kind) or not _may_pass(scope, kind[2]):
         return False
-    return within(scope.design, scope.known[statement[3]], kind[1])
+    return within(scope.words, scope.known[statement[3]], kind[1])
 
 
 def _may_show(scope, statement):

@@ -28,10 +28,10 @@ class Cell:
 
 
 class Machine:
-    """What one run has at every depth."""
+    """What one run has at every depth; the words are the design's."""
 
-    def __init__(self, design, functions):
-        self.design = design
+    def __init__(self, words, functions):
+        self.words = words
         self.functions = functions
         self.shown = []
 
@@ -67,14 +67,14 @@ def _fits(machine, value, wanted):
     if kind == "record":
         return wanted == "small" or wanted == "big" and len(load) == 2
     if kind == "cell":
-        return within(machine.design, ("cell", load.born), wanted)
-    return within(machine.design, function_type(machine.functions[load]), wanted)
+        return within(machine.words, ("cell", load.born), wanted)
+    return within(machine.words, function_type(machine.functions[load]), wanted)
 
 
 def _used(machine, value, kind):
     """The end of the run if the value is not of the kind that is used, or None; and what it carries."""
     if value[0] == "nothing":
-        if checks(machine.design, "none"):
+        if checks(machine.words, "none"):
             return ("stops", "none"), None
         return ("wrong", "none"), None
     if value[0] != kind:
@@ -126,7 +126,7 @@ def _do_put(machine, frame, statement):
     if end is not None:
         return end, NOTHING
     value = frame.held[statement[2]]
-    if checks(machine.design, "along") and not _fits(machine, value, cell.born):
+    if checks(machine.words, "along") and not _fits(machine, value, cell.born):
         return ("stops", "put"), NOTHING
     cell.fill(value)
     return None, NOTHING
@@ -145,7 +145,7 @@ def _do_field(machine, frame, statement):
 
 def _do_cast(machine, frame, statement):
     value = frame.held[statement[2]]
-    if checks(machine.design, "cast") and not _fits(machine, value, "big"):
+    if checks(machine.words, "cast") and not _fits(machine, value, "big"):
         return ("stops", "cast"), NOTHING
     return None, value
 
@@ -175,7 +175,7 @@ def _do_use(machine, frame, statement):
     if end is not None:
         return end, NOTHING
     value = frame.held[statement[3]]
-    if checks(machine.design, "args") and not _fits(machine, value, machine.functions[number][0]):
+    if checks(machine.words, "args") and not _fits(machine, value, machine.functions[number][0]):
         return ("stops", "args"), NOTHING
     return _run_function(machine, frame, number, value)
 

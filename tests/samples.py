@@ -2,6 +2,12 @@
 
 from soundborder.errors import BadDesign
 
+# The words of the document's point 3, which are a design, too.
+ALL = (
+    "against", "along", "along checked", "args", "args checked", "blank", "calls",
+    "cast", "cast checked", "keep", "none", "none checked", "put", "share",
+)
+
 # Values of every kind, none of which is a type, a design or a program.
 ODD_VALUES = (
     -1, 7, True, False, None, "", "any", "cell", "along", [], [[]], ["num"], ["along"], {}, {"along": True},
@@ -52,3 +58,15 @@ def plain(*statements):
     """The program of these statements, without a function."""
     return ((), statements)
 
+
+def every_design():
+    """Each design, the empty one first."""
+    designs = [()]
+    for word in ALL:
+        designs.extend([design + (word,) for design in designs])
+    return designs
+
+
+def without(*words):
+    """The design of all words but these."""
+    return tuple(word for word in ALL if word not in words)

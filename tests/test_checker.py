@@ -4,18 +4,10 @@ import unittest
 
 from soundborder.checker import fault, lets_by, types
 from soundborder.errors import NotMade
-from tests.samples import BREAKERS, SETTER, plain
+from tests.samples import ALL, BREAKERS, SETTER, plain, without
 
-ALL = (
-    "against", "along", "along checked", "args", "args checked", "blank", "calls",
-    "cast", "cast checked", "keep", "none", "none checked", "put", "share",
-)
 ANY = ("cell", "any")
 NUMBERS = ("num", "num", (), 0)
-
-
-def without(*words):
-    return tuple(word for word in ALL if word not in words)
 
 
 class Checked(unittest.TestCase):
